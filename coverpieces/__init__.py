@@ -1,0 +1,1 @@
+"""Pieces laid on floors, counted, told by number, barred by papers."""
