@@ -189,6 +189,9 @@ class FormedTest(unittest.TestCase):
         spots = [(3, column, "A") for column in range(20, 10, -1)]
         self.assertEqual(formed(spots), tuple([(0, column, "A") for column in range(10)]))
 
+    def test_no_spots(self):
+        self.assertEqual(formed([]), ())
+
     def test_list_stays(self):
         spots = [(5, 6, "B"), (5, 5, "A"), (4, 9, "C")]
         kept = list(spots)

@@ -77,6 +77,10 @@ class TurnedTest(unittest.TestCase):
         for t in range(8):
             self.assertEqual(turned(((0, 0, "A"),), t), ((0, 0, "A"),))
 
+    def test_no_spots(self):
+        for t in range(8):
+            self.assertEqual(turned((), t), ())
+
     def test_more_than_six_spots(self):
         self.assertEqual(turned(form_of("ABCDE/FGHIJ"), 5), form_of("JE/ID/HC/GB/FA"))
 
