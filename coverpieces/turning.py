@@ -44,6 +44,11 @@ def numbered(mirrors, turns):
     return turns % 4 + (4 if mirrors else 0)
 
 
+def is_mode(found):
+    """Whether something is a mode."""
+    return isinstance(found, str) and found in TURNINGS_BY_MODE
+
+
 def forms_of(form, mode):
     """The unlike forms that the mode's turnings make of the form, sorted."""
     return sorted(set([turned(form, t) for t in range(TURNINGS_BY_MODE[mode])]))

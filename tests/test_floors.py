@@ -4,6 +4,7 @@ import unittest
 
 from coverpieces.floors import is_floor, is_open, must_be, open_cells, turned_floor, wanted
 from coverpieces.turning import then, undoing
+from tests.helpers import Unequal
 
 FAR = 10 ** 49
 
@@ -15,13 +16,6 @@ FLOOR = (
     "#zb.",
     "Z##,",
 )
-
-
-class Unequal:
-    """A thing that can't be held against another one."""
-
-    def __eq__(self, other):
-        raise RuntimeError("not to be asked")
 
 
 class IsFloorTest(unittest.TestCase):

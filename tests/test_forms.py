@@ -3,6 +3,7 @@
 import unittest
 
 from coverpieces.forms import formed, is_form, touches
+from tests.helpers import Unequal
 
 FAR = 10 ** 49
 
@@ -24,13 +25,6 @@ GOOD = (
     # The first spot hangs on the second one only by the last row.
     ((0, 2, "A"), (1, 0, "A"), (1, 2, "A"), (2, 0, "A"), (2, 1, "A"), (2, 2, "A")),
 )
-
-
-class Unequal:
-    """A thing that can't be held against another one."""
-
-    def __eq__(self, other):
-        raise RuntimeError("not to be asked")
 
 
 class IsFormTest(unittest.TestCase):

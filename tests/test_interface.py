@@ -27,6 +27,20 @@ NAMES = {
         "wanted": ["floor", "cell"],
         "turned_floor": ["floor", "t"],
     },
+    "puzzles": {
+        "is_kind": ["found"],
+        "is_puzzle": ["found"],
+    },
+    "texts": {
+        "read": ["text"],
+        "shown": ["puzzle"],
+    },
+    "placements": {
+        "placements": ["puzzle"],
+    },
+    "judge": {
+        "judged": ["puzzle", "laying"],
+    },
 }
 
 

@@ -30,6 +30,21 @@ BANNED_WORDS = """
 
 BANNED_PARTS = ("dataclass", "overload", "contextmanager")
 
+BANNED_NAMES = """
+    register mro elements open input version_info with_traceback add_note attrgetter breakpoint builtins compile
+    copyright credits delattr dir eval exec exit gc getattr globals hasattr help id importlib license locals
+    methodcaller os quit setattr super type vars sys __name__ format format_map
+""".split()
+
+# The calls whose outcome is walked on the spot, and those that walk it.
+WALKED = "zip enumerate reversed range items keys values".split()
+WALKERS = "list tuple dict sorted sum any all enumerate zip min max join".split()
+
+KEYWORDS = {
+    "sorted": ("key", "reverse"), "min": ("key", "default"), "max": ("key", "default"), "sum": ("start",),
+    "enumerate": ("start",), "zip": ("strict",),
+}
+
 BANNED_NODES = (
     ast.With, ast.Match, ast.Delete, ast.Global, ast.Nonlocal, ast.Assert, ast.Yield, ast.YieldFrom,
     ast.AsyncFunctionDef, ast.Await, ast.SetComp, ast.DictComp, ast.GeneratorExp, ast.NamedExpr,
@@ -58,6 +73,37 @@ def own_names(tree):
         elif isinstance(node, ast.alias):
             names.add(node.asname or node.name)
     return names
+
+
+def nodes_with_parents():
+    """Each node of each file, with the node around it and where it stands."""
+    for name, text in package_files():
+        for parent in ast.walk(ast.parse(text)):
+            for node in ast.iter_child_nodes(parent):
+                yield node, parent, (name, getattr(node, "lineno", 0))
+
+
+def called(node):
+    """The name of the function or the method that a node calls, or an empty text."""
+    if not isinstance(node, ast.Call):
+        return ""
+    return node.func.attr if isinstance(node.func, ast.Attribute) else getattr(node.func, "id", "")
+
+
+def top_names(tree):
+    """The names that a file binds at its top by defs, classes and assignments, each as often as it does."""
+    names = []
+    for node in tree.body:
+        if isinstance(node, (ast.FunctionDef, ast.ClassDef)):
+            names.append(node.name)
+        elif isinstance(node, ast.Assign):
+            names.extend([target.id for target in node.targets])
+    return names
+
+
+def drawn_from(tree):
+    """The package's files that a file draws from, each with the names drawn."""
+    return {node.module: [alias.name for alias in node.names] for node in tree.body if isinstance(node, ast.ImportFrom)}
 
 
 class LanguageTest(unittest.TestCase):
@@ -139,6 +185,121 @@ class LanguageTest(unittest.TestCase):
             for node in ast.walk(ast.parse(text)):
                 if isinstance(node, ast.Call) and isinstance(node.func, ast.Attribute):
                     self.assertIn(node.func.attr, known, (name, node.lineno))
+
+    def test_names_that_are_not_used(self):
+        for node, parent, where in nodes_with_parents():
+            if isinstance(node, ast.Name):
+                self.assertNotIn(node.id, BANNED_NAMES, where)
+            if isinstance(node, ast.Attribute):
+                self.assertNotIn(node.attr, BANNED_NAMES, where)
+                self.assertFalse(node.attr.startswith("_"), where)
+
+    def test_classes(self):
+        for node, parent, where in nodes_with_parents():
+            if isinstance(node, ast.ClassDef):
+                self.assertIsInstance(parent, ast.Module, where)
+                self.assertLessEqual(len(node.bases), 1, where)
+                self.assertEqual(node.keywords + node.decorator_list, [], where)
+                self.assertIsNotNone(ast.get_docstring(node), where)
+                for part in node.body[1:]:
+                    self.assertIsInstance(part, ast.FunctionDef, where)
+
+    def test_each_name_once(self):
+        for name, text in package_files():
+            tree = ast.parse(text)
+            names = top_names(tree)
+            for drawn in drawn_from(tree).values():
+                names.extend(drawn)
+            self.assertEqual(len(names), len(set(names)), name)
+
+    def test_locals_are_not_called_like_imports_and_classes(self):
+        for name, text in package_files():
+            tree = ast.parse(text)
+            taken = [node.name for node in tree.body if isinstance(node, ast.ClassDef)]
+            for drawn in drawn_from(tree).values():
+                taken.extend(drawn)
+            for node in ast.walk(tree):
+                if isinstance(node, ast.arg):
+                    self.assertNotIn(node.arg, taken, (name, node.lineno))
+                if isinstance(node, ast.Name) and isinstance(node.ctx, ast.Store):
+                    self.assertNotIn(node.id, taken, (name, node.lineno))
+
+    def test_drawn_from_the_defining_file(self):
+        bound = {"coverpieces." + name[:-3]: top_names(ast.parse(text)) for name, text in package_files()}
+        for name, text in package_files():
+            for module, drawn in drawn_from(ast.parse(text)).items():
+                self.assertIn(module, bound, name)
+                for word in drawn:
+                    self.assertIn(word, bound[module], name)
+        for node, parent, where in nodes_with_parents():
+            if isinstance(node, ast.ImportFrom):
+                self.assertIsInstance(parent, ast.Module, where)
+                self.assertEqual([alias.asname for alias in node.names if alias.asname], [], where)
+
+    def test_no_files_draw_from_one_another(self):
+        left = {"coverpieces." + name[:-3]: set(drawn_from(ast.parse(text))) for name, text in package_files()}
+        while left:
+            ready = [module for module, sources in left.items() if not sources & set(left)]
+            self.assertNotEqual(ready, [], sorted(left))
+            left = {module: sources for module, sources in left.items() if module not in ready}
+
+    def test_is_beside_none_true_and_false(self):
+        for node, parent, where in nodes_with_parents():
+            if isinstance(node, ast.Compare):
+                for sort, right in zip(node.ops, node.comparators):
+                    if isinstance(sort, (ast.Is, ast.IsNot)):
+                        self.assertIsInstance(right, ast.Constant, where)
+                        self.assertIn(repr(right.value), ("None", "True", "False"), where)
+
+    def test_no_annotations(self):
+        for node, parent, where in nodes_with_parents():
+            self.assertNotIsInstance(node, ast.AnnAssign, where)
+            if isinstance(node, ast.FunctionDef):
+                self.assertIsNone(node.returns, where)
+            if isinstance(node, ast.arg):
+                self.assertIsNone(node.annotation, where)
+
+    def test_errors(self):
+        for node, parent, where in nodes_with_parents():
+            if isinstance(node, ast.Raise):
+                self.assertIsInstance(node.exc, ast.Call, where)
+            if isinstance(node, ast.Try):
+                self.assertEqual(node.finalbody, [], where)
+            if isinstance(node, ast.ExceptHandler):
+                self.assertIsInstance(node.type, (ast.Name, ast.Tuple), where)
+                names = [found.id for found in ast.walk(node.type) if isinstance(found, ast.Name)]
+                self.assertEqual(sorted({"Exception", "TypeError"} & set(names)), [], where)
+
+    def test_keywords(self):
+        for node, parent, where in nodes_with_parents():
+            if isinstance(node, ast.keyword) and hasattr(builtins, called(parent)):
+                self.assertIn(node.arg, KEYWORDS.get(called(parent), ()), where)
+
+    def test_walked_at_once(self):
+        for node, parent, where in nodes_with_parents():
+            if called(node) in WALKED:
+                if isinstance(parent, (ast.For, ast.comprehension)):
+                    self.assertIs(parent.iter, node, where)
+                else:
+                    self.assertIn(called(parent), WALKERS, where)
+
+    def test_sets(self):
+        for node, parent, where in nodes_with_parents():
+            self.assertNotEqual(called(node), "frozenset", where)
+            if called(node) == "set" or isinstance(node, ast.Set):
+                beside = isinstance(parent, (ast.Compare, ast.BinOp))
+                self.assertTrue(beside or called(parent) in ("sorted", "len"), where)
+
+    def test_texts_with_values(self):
+        for node, parent, where in nodes_with_parents():
+            if isinstance(node, ast.FormattedValue):
+                self.assertIsInstance(node.value, ast.Name, where)
+                self.assertIsNone(node.format_spec, where)
+
+    def test_methods_are_called_where_they_stand(self):
+        for node, parent, where in nodes_with_parents():
+            if isinstance(node, ast.Attribute) and node.attr in METHODS:
+                self.assertTrue(isinstance(parent, ast.Call) and parent.func is node, where)
 
 
 if __name__ == "__main__":

@@ -4,17 +4,7 @@ import unittest
 
 from coverpieces.forms import is_form
 from coverpieces.turning import forms_of, then, turned, undoing
-
-
-def form_of(picture):
-    """The form of a picture: rows with a / between, a point where no cell is."""
-    spots = []
-    for row, signs in enumerate(picture.split("/")):
-        for column, sign in enumerate(signs):
-            if sign != ".":
-                spots.append((row, column, sign))
-    return tuple(spots)
-
+from tests.helpers import form_of
 
 UNLIKE = "ABC/D.."
 
