@@ -2,6 +2,7 @@
 
 from coverpieces.floors import must_be, open_cells
 from coverpieces.placements import placements
+from coverpieces.puzzles import is_kept_apart
 
 
 def strange_piece(puzzle, laying):
@@ -61,7 +62,7 @@ def covers_by_cell(laying):
 
 def are_apart(apart, cover, other):
     """Whether two covers are of unlike placements and their signs may not touch."""
-    return cover[0] != other[0] and tuple(sorted([cover[1], other[1]])) in apart
+    return cover[0] != other[0] and is_kept_apart(apart, cover[1], other[1])
 
 
 def wrong_count(puzzle, laying):

@@ -59,3 +59,8 @@ def is_pair(found):
     if not isinstance(found, tuple) or len(found) != 2:
         return False
     return is_sign(found[0]) and is_sign(found[1]) and found[0] <= found[1]
+
+
+def is_kept_apart(apart, sign, other):
+    """Whether two signs, in whichever order, are a pair of apart."""
+    return tuple(sorted([sign, other])) in apart

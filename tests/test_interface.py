@@ -41,7 +41,26 @@ NAMES = {
     "judge": {
         "judged": ["puzzle", "laying"],
     },
+    "states": {
+        "begin": ["puzzle"],
+        "options": ["puzzle", "state"],
+        "behind": ["puzzle", "state", "option"],
+        "ended": ["state"],
+        "ends_well": ["puzzle", "state"],
+    },
+    "table": {
+        "table": ["puzzle"],
+        "count": ["puzzle"],
+    },
+    "numbers": {
+        "laying_of": ["puzzle", "number"],
+        "number_of": ["puzzle", "laying"],
+        "layings": ["puzzle", "start", "many"],
+    },
 }
+
+# What arguments that may be left out stand for.
+DEFAULTS = {("numbers", "layings"): {"start": 0, "many": 2}}
 
 
 class InterfaceTest(unittest.TestCase):
@@ -51,6 +70,9 @@ class InterfaceTest(unittest.TestCase):
             for name, arguments in defs.items():
                 found = inspect.signature(getattr(module, name))
                 self.assertEqual(list(found.parameters), arguments, (file, name))
+                for word, told in found.parameters.items():
+                    default = DEFAULTS.get((file, name), {}).get(word, told.empty)
+                    self.assertEqual(told.default, default, (file, name, word))
 
     def test_package_holds_python_files_alone(self):
         folder = os.path.dirname(coverpieces.__file__)

@@ -5,21 +5,7 @@ import unittest
 
 from coverpieces.judge import judged
 from coverpieces.placements import placements
-from tests.helpers import form_of, spots_at
-
-
-def at(picture, row, column, number=0):
-    """A placement by its picture, the place of the picture's first sign, and its kind's number."""
-    return (spots_at(picture, row, column), number)
-
-
-def kind(least, most, mode, picture, name="a"):
-    return (name, least, most, mode, form_of(picture))
-
-
-def puzzle_of(floor, kinds, *pairs):
-    """A puzzle by its floor's rows, its kinds, and pairs of signs written side by side."""
-    return (tuple(floor.split("/")), tuple(kinds), tuple([tuple(pair) for pair in pairs]))
+from tests.helpers import at, kind, puzzle_of
 
 
 ONES = (kind(0, None, "still", "A", "a"), kind(0, None, "still", "B", "b"), kind(0, None, "still", "C", "c"))

@@ -45,6 +45,13 @@ KEYWORDS = {
     "enumerate": ("start",), "zip": ("strict",),
 }
 
+# The values of an object may be called like these methods of Python's own values, and like no other.
+VALUE_NAMES = "count index title find get join lower upper split strip copy add".split()
+
+KEYS = "len int str abs sum min max tuple".split()
+
+CHANGES = "append clear extend insert pop remove reverse setdefault update".split()
+
 BANNED_NODES = (
     ast.With, ast.Match, ast.Delete, ast.Global, ast.Nonlocal, ast.Assert, ast.Yield, ast.YieldFrom,
     ast.AsyncFunctionDef, ast.Await, ast.SetComp, ast.DictComp, ast.GeneratorExp, ast.NamedExpr,
@@ -104,6 +111,41 @@ def top_names(tree):
 def drawn_from(tree):
     """The package's files that a file draws from, each with the names drawn."""
     return {node.module: [alias.name for alias in node.names] for node in tree.body if isinstance(node, ast.ImportFrom)}
+
+
+def class_names():
+    """For each class the names of its methods and of its values, each as often as it is bound."""
+    found = {}
+    for name, text in package_files():
+        for node in ast.parse(text).body:
+            if isinstance(node, ast.ClassDef):
+                methods = [part.name for part in node.body if isinstance(part, ast.FunctionDef)]
+                values = [part.attr for part in ast.walk(node)
+                          if isinstance(part, ast.Attribute) and isinstance(part.ctx, ast.Store)]
+                found[name, node.name] = (methods, values)
+    return found
+
+
+def changed_names(body):
+    """What is changed within a loop's body: the roots of `x.append(..)`, `x[k] = ..` and their like, as texts."""
+    found = []
+    for node in [part for statement in body for part in ast.walk(statement)]:
+        if called(node) in CHANGES and isinstance(node.func, ast.Attribute):
+            found.append(ast.unparse(node.func.value))
+        if isinstance(node, ast.Subscript) and isinstance(node.ctx, ast.Store):
+            found.append(ast.unparse(node.value))
+    return found
+
+
+def walked_names(node):
+    """What a loop walks, itself or through a call, as texts."""
+    found = [ast.unparse(node)]
+    if isinstance(node, ast.Call):
+        for part in node.args:
+            found.extend(walked_names(part))
+        if isinstance(node.func, ast.Attribute):
+            found.append(ast.unparse(node.func.value))
+    return found
 
 
 class LanguageTest(unittest.TestCase):
@@ -171,7 +213,7 @@ class LanguageTest(unittest.TestCase):
         for name, text in package_files():
             tree = ast.parse(text)
             for own in own_names(tree):
-                self.assertFalse(hasattr(builtins, own), (name, own))
+                self.assertNotIn(own, vars(builtins), (name, own))
                 self.assertFalse(own.startswith("_") and own != "__init__", (name, own))
             for node in ast.walk(tree):
                 if isinstance(node, ast.Name) and hasattr(builtins, node.id):
@@ -203,6 +245,34 @@ class LanguageTest(unittest.TestCase):
                 self.assertIsNotNone(ast.get_docstring(node), where)
                 for part in node.body[1:]:
                     self.assertIsInstance(part, ast.FunctionDef, where)
+
+    def test_methods_and_values_of_classes(self):
+        python_own = set(dir(str) + dir(int) + dir(list) + dir(dict) + dir(set) + dir(bytes) + dir(tuple))
+        all_methods = [name for methods, values in class_names().values() for name in methods]
+        for where, (methods, values) in class_names().items():
+            self.assertEqual(len(methods), len(set(methods)), where)
+            for name in values:
+                self.assertNotIn(name, all_methods, where)
+                self.assertTrue(name not in python_own or name in VALUE_NAMES, (where, name))
+            for name in methods:
+                allowed = METHODS + ["__init__", "add", "discard"]
+                self.assertTrue(name not in python_own or name in allowed, (where, name))
+
+    def test_init_gives_back_nothing(self):
+        for node, parent, where in nodes_with_parents():
+            if isinstance(node, ast.FunctionDef) and node.name == "__init__":
+                self.assertEqual([part for part in ast.walk(node) if isinstance(part, ast.Return)], [], where)
+
+    def test_defaults_are_plain_values(self):
+        for node, parent, where in nodes_with_parents():
+            if isinstance(node, ast.FunctionDef):
+                for default in node.args.defaults:
+                    self.assertIsInstance(default, ast.Constant, where)
+
+    def test_what_a_loop_walks_is_not_changed_in_it(self):
+        for node, parent, where in nodes_with_parents():
+            if isinstance(node, ast.For):
+                self.assertEqual(sorted(set(walked_names(node.iter)) & set(changed_names(node.body))), [], where)
 
     def test_each_name_once(self):
         for name, text in package_files():
@@ -274,6 +344,12 @@ class LanguageTest(unittest.TestCase):
         for node, parent, where in nodes_with_parents():
             if isinstance(node, ast.keyword) and hasattr(builtins, called(parent)):
                 self.assertIn(node.arg, KEYWORDS.get(called(parent), ()), where)
+                if node.arg == "key":
+                    self.assertIsInstance(node.value, (ast.Name, ast.Lambda, ast.Attribute), where)
+                    word = getattr(node.value, "id", "")
+                    self.assertTrue(word not in vars(builtins) or word in KEYS, where)
+                if node.arg in ("reverse", "strict"):
+                    self.assertIsInstance(node.value, ast.Constant, where)
 
     def test_walked_at_once(self):
         for node, parent, where in nodes_with_parents():
