@@ -10,6 +10,13 @@ def touches(cell, other):
     return abs(cell[0] - other[0]) + abs(cell[1] - other[1]) == 1
 
 
+def around(cell):
+    """The four cells that touch a cell, in reading order."""
+    row = cell[0]
+    column = cell[1]
+    return [(row - 1, column), (row, column - 1), (row, column + 1), (row + 1, column)]
+
+
 def formed(spots):
     """The spots shifted so that the least row and column are 0, sorted."""
     top = min([spot[0] for spot in spots], default=0)

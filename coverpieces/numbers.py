@@ -65,6 +65,12 @@ def choice_in(choices, laying):
     return 0
 
 
+def all_layings(puzzle):
+    """All layings that keep a puzzle, by rising numbers."""
+    rows = table(puzzle)
+    return [laying_in(rows, number) for number in range(rows[0][2])]
+
+
 def layings(puzzle, start=0, many=2):
     """The layings of so many numbers from start on, or of all that are left."""
     rows = table(puzzle)

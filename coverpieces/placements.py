@@ -33,3 +33,8 @@ def may_lie(floor, spots):
 def may_cover(floor, cell, sign):
     """Whether a cell, on the floor or beside it, may be covered by a sign."""
     return is_open(floor, cell) and wanted(floor, cell) in (None, sign)
+
+
+def served_by(placement):
+    """The needs that a placement serves where there are such: each of its cells covered, one more of its kind laid."""
+    return [("cell", (row, column)) for row, column, sign in placement[0]] + [("kind", placement[1])]

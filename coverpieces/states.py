@@ -1,6 +1,7 @@
 """States: what is half laid while a puzzle's cells are decided one after the other, in reading order."""
 
 from coverpieces.floors import must_be, open_cells
+from coverpieces.forms import around
 from coverpieces.placements import placements
 from coverpieces.puzzles import is_kept_apart
 
@@ -22,10 +23,7 @@ class Ground:
 
 def near_places(places, cell):
     """The places of the open cells that touch a cell."""
-    row = cell[0]
-    column = cell[1]
-    around = ((row - 1, column), (row, column - 1), (row, column + 1), (row + 1, column))
-    return [places[other] for other in around if other in places]
+    return [places[other] for other in around(cell) if other in places]
 
 
 def begin(puzzle):

@@ -5,37 +5,43 @@ from coverpieces.states import Ground, begin, behind_on, ends_well, options_amon
 
 def table(puzzle):
     """Each state that can be come to, as a row: the state, its choices with their rows' numbers, its count."""
-    steps = steps_by_state(puzzle)
-    # Each option decides a cell, so what lies behind a state comes later.
-    states = sorted(steps, key=undecided_cells, reverse=True)
-    counts = counts_by_state(puzzle, states, steps)
-    numbers = {}
-    for number, state in enumerate(states):
-        numbers[state] = number
-    return [(state, numbered_choices(steps[state], numbers), counts[state]) for state in states]
-
-
-def steps_by_state(puzzle):
-    """For each state that can be come to its options, each with the state behind it."""
     ground = Ground(puzzle)
     starts = starting_options(puzzle)
-    steps = {}
+    steps = steps_by_state(puzzle, lambda state: steps_of(ground, starts, state))
+    counts = counts_by_state(puzzle, steps)
+    numbers = {}
+    for number, state in enumerate(steps):
+        numbers[state] = number
+    return [(state, numbered_choices(steps[state], numbers), counts[state]) for state in steps]
+
+
+def steps_of(ground, starts, state):
+    """The options of a state, each with the state behind it."""
+    return [(option, behind_on(ground, state, option)) for option in options_among(ground, starts, state)]
+
+
+def steps_by_state(puzzle, told_steps):
+    """For each state that can be come to by the steps that a function tells of each state, these steps.
+
+    The states stand in such an order that those behind a state come later.
+    """
+    found = {}
     waiting = [begin(puzzle)]
     while waiting:
         state = waiting.pop()
-        if state not in steps:
-            found = options_among(ground, starts, state)
-            steps[state] = [(option, behind_on(ground, state, option)) for option in found]
-            waiting.extend([after for option, after in steps[state]])
-    return steps
+        if state not in found:
+            found[state] = told_steps(state)
+            waiting.extend([after for step, after in found[state]])
+    # Each step decides a cell at least.
+    return dict([(state, found[state]) for state in sorted(found, key=undecided_cells, reverse=True)])
 
 
-def counts_by_state(puzzle, states, steps):
+def counts_by_state(puzzle, steps):
     """For each state how many ways lead from it to an end that is well."""
     counts = {}
-    for state in reversed(states):
+    for state in reversed(list(steps)):
         # An ended state has no steps, so another end sums to 0.
-        counts[state] = 1 if ends_well(puzzle, state) else sum([counts[after] for option, after in steps[state]])
+        counts[state] = 1 if ends_well(puzzle, state) else sum([counts[after] for step, after in steps[state]])
     return counts
 
 

@@ -93,3 +93,23 @@ SMALL = (
     puzzle_of("...", kinds_of((0, 1, "still", "A"), (0, 1, "still", "B"))),
     puzzle_of(",,.", kinds_of((2, None, "still", "A"), (2, None, "turn", "AB"))),
 )
+
+# Small puzzles that no laying keeps, each for another cause.
+BARRED = (
+    puzzle_of(".", kinds_of((0, 0, "still", "A"))),
+    puzzle_of("B", kinds_of((0, None, "still", "A"))),
+    puzzle_of("##/##", kinds_of((1, None, "still", "A"))),
+    puzzle_of("...", kinds_of((0, None, "turn", "AA"))),
+    puzzle_of("../..", kinds_of((0, None, "turn", "AA/A."))),
+    puzzle_of("../..", kinds_of((0, None, "turn", "AB")), "AA", "AB", "BB"),
+    puzzle_of(",,,", kinds_of((2, 2, "still", "AA"))),
+    puzzle_of(",,/,,", kinds_of((3, None, "turn", "AB"))),
+    puzzle_of(",,,/,,,", kinds_of((3, 3, "still", "A"), (1, 1, "still", "A")), "AA"),
+    puzzle_of("...", kinds_of((3, 3, "still", "A"), (1, 1, "still", "B"))),
+    puzzle_of("...", kinds_of((0, 1, "still", "A"), (0, 1, "still", "B"))),
+    puzzle_of(",,.", kinds_of((2, None, "still", "A"), (2, None, "turn", "AB"))),
+    puzzle_of("#.../..../..../...#", kinds_of((0, None, "turn", "AA"))),
+    puzzle_of("..../....", kinds_of((1, 1, "still", "AA"), (3, 3, "still", "A/A"))),
+    puzzle_of("A.A", kinds_of((0, None, "turn", "AB"), (0, 1, "still", "C")), "BC"),
+    puzzle_of(".,./,#,/.,.", kinds_of((0, 3, "still", "A"), (0, None, "still", "BB")), "AB"),
+)

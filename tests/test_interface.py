@@ -6,6 +6,7 @@ import os
 import unittest
 
 import coverpieces
+from coverpieces.desk import Desk
 
 NAMES = {
     "forms": {
@@ -57,6 +58,27 @@ NAMES = {
         "number_of": ["puzzle", "laying"],
         "layings": ["puzzle", "start", "many"],
     },
+    "cases": {
+        "going": ["puzzle", "laid"],
+        "right_tree": ["puzzle", "laid", "tree"],
+        "cases": ["puzzle"],
+    },
+    "sums": {
+        "show_none": ["puzzle", "p", "weights"],
+        "is_mixture": ["puzzle", "p", "mixture"],
+        "sums": ["puzzle", "p"],
+    },
+    "likeness": {
+        "keeping": ["puzzle"],
+        "turned_laying": ["puzzle", "laying", "t"],
+        "first_of": ["puzzle", "laying"],
+        "classes": ["puzzle"],
+        "kept_by": ["puzzle", "t"],
+    },
+    "desk": {
+        "picture": ["puzzle", "laying"],
+        "Desk": [],
+    },
 }
 
 # What arguments that may be left out stand for.
@@ -73,6 +95,10 @@ class InterfaceTest(unittest.TestCase):
                 for word, told in found.parameters.items():
                     default = DEFAULTS.get((file, name), {}).get(word, told.empty)
                     self.assertEqual(told.default, default, (file, name, word))
+
+    def test_desk(self):
+        self.assertTrue(inspect.isclass(Desk))
+        self.assertEqual(list(inspect.signature(Desk().tell).parameters), ["text"])
 
     def test_package_holds_python_files_alone(self):
         folder = os.path.dirname(coverpieces.__file__)

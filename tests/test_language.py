@@ -372,6 +372,35 @@ class LanguageTest(unittest.TestCase):
                 self.assertIsInstance(node.value, ast.Name, where)
                 self.assertIsNone(node.format_spec, where)
 
+    def test_lists_and_dicts_of_a_top_are_only_read(self):
+        for name, text in package_files():
+            tree = ast.parse(text)
+            kept = [node.targets[0].id for node in tree.body
+                    if isinstance(node, ast.Assign) and isinstance(node.value, (ast.List, ast.Dict))]
+            for parent in ast.walk(tree):
+                for node in ast.iter_child_nodes(parent):
+                    if isinstance(node, ast.Name) and node.id in kept and isinstance(node.ctx, ast.Load):
+                        read = isinstance(parent, (ast.Subscript, ast.Compare, ast.For, ast.comprehension))
+                        self.assertTrue(read or called(parent) in ("len", "list", "dict", "sorted"), (name, node.id))
+                        self.assertNotIsInstance(getattr(parent, "ctx", None), ast.Store, (name, node.id))
+
+    def test_top_lists_and_dicts_hold_none(self):
+        for name, text in package_files():
+            for node in ast.parse(text).body:
+                if isinstance(node, ast.Assign) and isinstance(node.value, (ast.List, ast.Dict)):
+                    inner = [part for part in ast.walk(node.value) if part is not node.value]
+                    self.assertFalse(any(isinstance(part, (ast.List, ast.Dict)) for part in inner), name)
+
+    def test_powers_have_written_exponents(self):
+        for node, parent, where in nodes_with_parents():
+            if isinstance(node, ast.BinOp) and isinstance(node.op, ast.Pow):
+                self.assertIsInstance(node.right, ast.Constant, where)
+                self.assertIn(node.right.value, range(65), where)
+
+    def test_lambdas_stand_on_unlike_lines(self):
+        lines = [where for node, parent, where in nodes_with_parents() if isinstance(node, ast.Lambda)]
+        self.assertEqual(len(lines), len(set(lines)))
+
     def test_methods_are_called_where_they_stand(self):
         for node, parent, where in nodes_with_parents():
             if isinstance(node, ast.Attribute) and node.attr in METHODS:

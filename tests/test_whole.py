@@ -1,16 +1,20 @@
-"""Promise 3, as far as tables and numbers go: what the counts and layings of puzzles have to do with one another."""
+"""Promise 3, over the whole program: what counts, layings, papers and classes have to do with one another."""
 
 import unittest
 
+from coverpieces.cases import cases, going, right_tree
 from coverpieces.floors import turned_floor
 from coverpieces.judge import judged
+from coverpieces.likeness import classes, first_of, keeping, kept_by, turned_laying
 from coverpieces.numbers import laying_of, layings, number_of
+from coverpieces.puzzles import is_puzzle
+from coverpieces.sums import is_mixture, show_none, sums
 from coverpieces.table import count, table
-from coverpieces.turning import turned
-from tests.helpers import SMALL, at, kinds_of, puzzle_of
+from coverpieces.turning import then, turned, undoing
+from tests.helpers import BARRED, SMALL, at, kinds_of, puzzle_of
 
-PUZZLES = SMALL + (
-    puzzle_of("...../...../....", kinds_of((0, None, "turn", "AA"))),
+PUZZLES = SMALL + BARRED + (
+    puzzle_of("...../...../...../.....", kinds_of((0, None, "turn", "AA"))),
     puzzle_of(",,,,/,#b,/a,,,", kinds_of((1, 2, "flip", "AB/A."), (2, None, "turn", "AC")), "AA", "BC"),
     puzzle_of("..../..../..../....", kinds_of((0, None, "still", "AB"), (2, 4, "turn", "CC/C."), (0, 1, "still", "A"))),
     puzzle_of(",,,,/,,,,/,,,,", kinds_of((3, 4, "still", "A"), (0, 1, "turn", "AAA/B..")), "AA"),
@@ -70,6 +74,10 @@ def keeps_bounds(kinds, numbers):
 
 
 class LayingsTest(unittest.TestCase):
+    def test_puzzles_are_puzzles(self):
+        for puzzle in PUZZLES:
+            self.assertTrue(is_puzzle(puzzle), puzzle)
+
     def test_all_layings_each_once_and_back(self):
         for puzzle in PUZZLES:
             many = min(count(puzzle), 60)
@@ -144,6 +152,89 @@ class CountsTest(unittest.TestCase):
                 parts = [count(puzzle_of(floor, kinds_of((many, many, "turn", "AB"), (0, None, "still", "C")), "BC"))
                          for many in range(least, 7 if most is None else most + 1)]
                 self.assertEqual(free, sum(parts), (floor, least, most))
+
+
+class TableTest(unittest.TestCase):
+    def test_each_count_is_the_sum_of_the_next_ones(self):
+        for puzzle in PUZZLES:
+            rows = table(puzzle)
+            for state, choices, many in rows:
+                if choices:
+                    self.assertEqual(many, sum(rows[number][2] for option, number in choices), (puzzle, state))
+
+
+class PapersTest(unittest.TestCase):
+    def test_a_tree_just_where_there_is_no_laying(self):
+        for puzzle in PUZZLES:
+            word, told = cases(puzzle)
+            self.assertEqual(word == "none", count(puzzle) == 0, puzzle)
+            if word == "none":
+                self.assertTrue(right_tree(puzzle, [], told), puzzle)
+            else:
+                self.assertEqual(laying_of(puzzle, number_of(puzzle, told)), told, puzzle)
+
+    def test_weights_or_a_mixture(self):
+        for puzzle in PUZZLES:
+            for p in (2, 3, 5, 7, 97):
+                word, told = sums(puzzle, p)
+                if word == "weights":
+                    self.assertTrue(show_none(puzzle, p, told), (puzzle, p))
+                    self.assertEqual(count(puzzle), 0, (puzzle, p))
+                else:
+                    self.assertTrue(is_mixture(puzzle, p, told), (puzzle, p))
+
+    def test_layings_are_mixtures(self):
+        for puzzle in PUZZLES:
+            for laying in layings(puzzle, 0, 10):
+                for p in (2, 3, 97):
+                    self.assertTrue(is_mixture(puzzle, p, [(placement, 1) for placement in laying]), (puzzle, laying))
+
+    def test_what_is_left_of_a_laying_goes_with_the_rest(self):
+        for puzzle in PUZZLES:
+            for laying in layings(puzzle, 0, 5):
+                for k, placement in enumerate(laying):
+                    self.assertIn(placement, going(puzzle, laying[:k] + laying[k + 1:]), (puzzle, laying))
+
+    def test_turned(self):
+        for puzzle in BARRED:
+            for t in range(8):
+                other = turned_puzzle(puzzle, t)
+                self.assertTrue(right_tree(other, [], cases(other)[1]), (puzzle, t))
+                for p in (2, 3):
+                    self.assertEqual(sums(other, p)[0], sums(puzzle, p)[0], (puzzle, t, p))
+
+
+class ClassesTest(unittest.TestCase):
+    def test_one_first_laying_in_each_class(self):
+        for puzzle in PUZZLES:
+            if count(puzzle) < 300:
+                found = layings(puzzle, 0, 300)
+                firsts = classes(puzzle)
+                for laying in found:
+                    first = first_of(puzzle, laying)
+                    self.assertIn(first, firsts, (puzzle, laying))
+                    self.assertEqual(first_of(puzzle, first), first, (puzzle, laying))
+                    self.assertEqual(laying in firsts, laying == first, (puzzle, laying))
+                    self.assertIn(first, [turned_laying(puzzle, laying, t) for t in keeping(puzzle)])
+
+    def test_classes_times_turnings(self):
+        for puzzle in PUZZLES:
+            if count(puzzle) < 3000:
+                turnings = keeping(puzzle)
+                kept = [kept_by(puzzle, t) for t in turnings]
+                self.assertEqual(len(classes(puzzle)) * len(turnings), sum(kept), puzzle)
+                self.assertEqual(kept[0], count(puzzle), puzzle)
+
+    def test_turnings_that_keep_are_closed(self):
+        for puzzle in PUZZLES:
+            turnings = keeping(puzzle)
+            for t in turnings:
+                self.assertIn(undoing(t), turnings)
+                for s in turnings:
+                    self.assertIn(then(t, s), turnings)
+                    for laying in layings(puzzle):
+                        twice = turned_laying(puzzle, turned_laying(puzzle, laying, t), s)
+                        self.assertEqual(twice, turned_laying(puzzle, laying, then(t, s)), (puzzle, t, s))
 
 
 class KeptTest(unittest.TestCase):
